@@ -1,0 +1,1 @@
+"""Lendrule: what is lent, and what the tags let be turned."""
