@@ -344,3 +344,54 @@ class Maker:
         else:
             piece = self.other_operand(piece, names) if row[0] in ("say", "if") or k > 1 else self.other_spot(piece, names)
         return row[:k] + (piece,) + row[k + 1:]
+
+
+class LendingMaker(Maker):
+    """Makes right programs of few shapes, in which much is lent and lent on."""
+
+    def __init__(self, rng, most_rows=12):
+        super().__init__(rng)
+        self.most_rows = most_rows
+        self.shapes = [NUM, rng.choice([("own",), ("strip", 2), ("rec", (NUM, NUM)), ("rec", (NUM, ("own",)))])]
+
+    def kind(self):
+        return self.rng.choice(["lent", "sole", "sole"]), self.rng.choice(self.shapes)
+
+    def head(self, name, number):
+        rng = self.rng
+        names = rng.sample(LETTERS, 12)
+        params = tuple((one, NUM if number == 0 else rng.choice([self.kind(), self.kind(), rng.choice(self.shapes)]))
+                       for one in names[:rng.randrange(1, 4)])
+        owners = tuple((one, shape) for one, shape in zip(names[4:], self.shapes))
+        lets = owners + tuple((one, self.kind()) for one in names[6:rng.randrange(8, 13)])
+        result = rng.choice([None, *[kind for _, kind in params + lets if kind[0] in ("lent", "sole")]])
+        sources = tuple(one for one, kind in params if kind[0] in ("lent", "sole") and self.often(0.7))
+        return name, params, None if number == 0 or result is None else result + (sources,), lets
+
+    def program(self):
+        heads = [self.head(name, k) for k, name in enumerate(["main", "f", "g"][:self.rng.randrange(1, 4)])]
+        sizes = [self.rng.randrange(2, self.most_rows + 1) for _ in heads]
+        blanks = tuple(head + ((None,) * size,) for head, size in zip(heads, sizes))
+        return tuple(head + (self.rows(Listing(blanks, blank), size),)
+                     for head, blank, size in zip(heads, blanks, sizes))
+
+    def rows(self, listing, size):
+        # What is filled at the beginning leaves fewer claims of emptiness.
+        start = [("put", spot, 1) for spot in listing.targets if not spot[1] and spot[3] is None]
+        start += [("fill", spot, 1) for spot in listing.strips if not spot[1]]
+        told = start[:max(size - 2, 0)] if self.often(0.8) else []
+        return tuple(told) + super().rows(listing, size - len(told))
+
+    def row(self, listing):
+        if self.often(0.4):
+            return super().row(listing)
+        rng = self.rng
+        spot = rng.choice(list(listing.shapes))
+        held = [one for one, kind in listing.kinds.items() if kind[1:] == (listing.shapes[spot],)]
+        number = rng.choice([one for one in listing.numbers if one[1]] or listing.numbers)
+        if held and self.often(0.5):
+            taker = rng.choice(held)
+            return {"lent": "lend", "sole": "sole"}[listing.kinds[taker][0]], taker, spot
+        if number in listing.targets and self.often(0.5):
+            return "put", number, 1
+        return "say", number
