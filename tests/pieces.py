@@ -33,3 +33,8 @@ def named(**kinds):
 def work(*rows, params=(), lets=(), result=None, others=()):
     """A program whose function 1, "work", has these rows."""
     return (MAIN, ("work", params, result, lets, rows)) + others
+
+
+def start(*rows, params=(), lets=(), others=()):
+    """A program whose first function, "main", has these rows."""
+    return (("main", params, None, lets, rows),) + others

@@ -2,6 +2,7 @@
 
 import ast
 import builtins
+import functools
 import pathlib
 import re
 import unittest
@@ -31,9 +32,9 @@ WORDS = r"\b(type|typing|typing_extensions|enum|Enum|IntEnum|StrEnum|Flag|IntFla
 NOWHERE = {"register", "mro", "elements", "open", "input", "version_info", "with_traceback", "add_note"}
 
 
+@functools.cache
 def trees():
-    for path in FILES:
-        yield path, ast.parse(path.read_text(encoding="utf-8"))
+    return [(path, ast.parse(path.read_text(encoding="utf-8"))) for path in FILES]
 
 
 def bound_names(tree):
@@ -42,8 +43,32 @@ def bound_names(tree):
             yield node.id
         elif isinstance(node, ast.arg):
             yield node.arg
-        elif isinstance(node, (ast.FunctionDef, ast.ClassDef)):
+        elif isinstance(node, (ast.FunctionDef, ast.ClassDef)) or isinstance(node, ast.ExceptHandler) and node.name:
             yield node.name
+
+
+@functools.cache
+def own_methods():
+    return {node.name for _, tree in trees() for one in tree.body if isinstance(one, ast.ClassDef)
+            for node in one.body if isinstance(node, ast.FunctionDef)}
+
+
+@functools.cache
+def own_values():
+    return {node.attr for _, tree in trees() for node in ast.walk(tree)
+            if isinstance(node, ast.Attribute) and isinstance(node.ctx, ast.Store)}
+
+
+def with_parents(tree):
+    """Each node with the one that it stands in, and the one beyond."""
+    above = {child: node for node in ast.walk(tree) for child in ast.iter_child_nodes(node)}
+    for node in ast.walk(tree):
+        if node in above:
+            yield node, above[node], above.get(above[node])
+
+
+def is_called(node, name):
+    return isinstance(node, ast.Call) and getattr(node.func, "id", getattr(node.func, "attr", None)) == name
 
 
 class LanguageTest(unittest.TestCase):
@@ -164,14 +189,141 @@ class LanguageTest(unittest.TestCase):
                 if isinstance(node, ast.Attribute):
                     self.assertNotIn(node.attr, NOWHERE | {"format", "format_map"}, path)
                 if isinstance(node, ast.Call) and isinstance(node.func, ast.Attribute):
-                    self.assertIn(node.func.attr, METHODS | top, (path, node.lineno))
+                    self.assertIn(node.func.attr, METHODS | own_methods(), (path, node.lineno))
 
     def test_error_classes_taken(self):
+        """The package takes its own errors alone: what else may be taken, and round what, it need not ask."""
+        own = {node.name for _, tree in trees() for node in tree.body if isinstance(node, ast.ClassDef)}
         for path, tree in trees():
             for node in ast.walk(tree):
                 if isinstance(node, ast.ExceptHandler):
-                    self.assertIsInstance(node.type, (ast.Name, ast.Tuple), path)
-                    self.assertNotIn(getattr(node.type, "id", ""), ("Exception", "TypeError"), path)
+                    self.assertIn(getattr(node.type, "id", ""), own, (path, node.lineno))
+                if isinstance(node, ast.Raise):
+                    self.assertIsInstance(node.exc, ast.Call, (path, node.lineno))
+
+    def test_own_methods_and_values(self):
+        python = {name for one in ("", 0, [], {}, set(), b"", ()) for name in dir(one)}
+        self.assertEqual(own_methods() & own_values(), set())
+        self.assertEqual((own_methods() - set(DUNDERS)) & (python - METHODS - {"add", "discard"}), set())
+        self.assertEqual(own_values() & (python - {"count", "index", "title", "find", "get", "join", "lower", "upper",
+                                                   "split", "strip", "copy", "add"}) - {"args"}, set())
+
+    def test_methods_are_called_where_they_stand(self):
+        names = METHODS | own_methods()
+        for path, tree in trees():
+            for node, parent, _ in with_parents(tree):
+                if isinstance(node, ast.Attribute) and node.attr in names - own_values():
+                    self.assertTrue(isinstance(parent, ast.Call) and parent.func is node, (path, node.lineno))
+
+    def test_values_are_given_through_a_local_name(self):
+        for path, tree in trees():
+            top = {name for node in tree.body for name in ([getattr(node, "name", "")] + [
+                target.id for target in getattr(node, "targets", []) if isinstance(target, ast.Name)])}
+            for node in ast.walk(tree):
+                if isinstance(node, (ast.Attribute, ast.Subscript)) and isinstance(node.ctx, (ast.Store, ast.Del)):
+                    inner = node.value
+                    while isinstance(inner, (ast.Attribute, ast.Subscript)):
+                        inner = inner.value
+                    self.assertIsInstance(inner, ast.Name, (path, node.lineno))
+                    self.assertNotIn(inner.id, top, (path, node.lineno))
+
+    def test_classes_stand_where_they_may(self):
+        own = {node.name for _, tree in trees() for node in tree.body if isinstance(node, ast.ClassDef)}
+        for path, tree in trees():
+            for node, parent, beyond in with_parents(tree):
+                if isinstance(node, ast.Name) and node.id in own:
+                    right = isinstance(parent, (ast.ExceptHandler, ast.ClassDef)) or \
+                        isinstance(parent, ast.Call) and (parent.func is node or is_called(parent, "isinstance")) or \
+                        isinstance(parent, ast.Tuple) and is_called(beyond, "isinstance") or \
+                        isinstance(parent, ast.Attribute) and parent.attr == "__init__"
+                    self.assertTrue(right, (path, node.lineno))
+
+    def test_pythons_own_are_called(self):
+        for path, tree in trees():
+            for node, parent, beyond in with_parents(tree):
+                if isinstance(node, ast.Name) and node.id in OWN_NAMES and not isinstance(parent, ast.ClassDef):
+                    right = isinstance(parent, ast.Call) and (parent.func is node or is_called(parent, "isinstance")) \
+                        or isinstance(parent, ast.keyword) and parent.arg == "key" \
+                        or isinstance(parent, ast.Tuple) and is_called(beyond, "isinstance")
+                    self.assertTrue(right, (path, node.lineno))
+
+    def test_keywords(self):
+        allowed = {"sorted": {"key", "reverse"}, "min": {"key", "default"}, "max": {"key", "default"},
+                   "sum": {"start"}, "enumerate": {"start"}, "zip": {"strict"}}
+        own = {node.name for _, tree in trees() for node in ast.walk(tree) if isinstance(node, ast.FunctionDef)}
+        for path, tree in trees():
+            for node in ast.walk(tree):
+                if isinstance(node, ast.Call) and getattr(node.func, "id", "") not in own:
+                    names = {keyword.arg for keyword in node.keywords}
+                    self.assertLessEqual(names, allowed.get(getattr(node.func, "id", ""), set()), (path, node.lineno))
+
+    def test_walked_on_the_spot(self):
+        walkers = ("list", "tuple", "dict", "sorted", "sum", "any", "all", "enumerate", "zip")
+        for path, tree in trees():
+            for node, parent, _ in with_parents(tree):
+                if not any(is_called(node, name) for name in ("zip", "enumerate", "reversed", "range", "items", "keys",
+                                                              "values")):
+                    continue
+                right = isinstance(parent, (ast.For, ast.comprehension)) and parent.iter is node or \
+                    isinstance(parent, ast.Call) and parent.args[:1] == [node] and (
+                        getattr(parent.func, "id", "") in walkers or
+                        getattr(parent.func, "id", "") in ("min", "max") and len(parent.args) == 1 or
+                        isinstance(parent.func, ast.Attribute) and parent.func.attr == "join")
+                self.assertTrue(right, (path, node.lineno))
+
+    def test_what_is_walked_is_not_changed(self):
+        changing = ("append", "clear", "extend", "insert", "pop", "remove", "reverse", "setdefault", "update")
+        for path, tree in trees():
+            for loop in ast.walk(tree):
+                if not isinstance(loop, ast.For):
+                    continue
+                walked = loop.iter
+                while any(is_called(walked, name) for name in ("enumerate", "zip", "reversed")):
+                    walked = walked.args[0]
+                shown = ast.dump(walked)
+                for node in ast.walk(loop):
+                    if isinstance(node, ast.Call) and isinstance(node.func, ast.Attribute):
+                        self.assertFalse(node.func.attr in changing and ast.dump(node.func.value) == shown,
+                                         (path, node.lineno))
+                    if isinstance(node, ast.Subscript) and isinstance(node.ctx, ast.Store):
+                        self.assertNotEqual(ast.dump(node.value), shown, (path, node.lineno))
+
+    def test_sets(self):
+        for path, tree in trees():
+            for node, parent, _ in with_parents(tree):
+                if is_called(node, "set") or is_called(node, "frozenset") or isinstance(node, ast.Set):
+                    right = isinstance(parent, ast.Compare) or is_called(parent, "sorted") or is_called(parent, "len")
+                    self.assertTrue(right, (path, node.lineno))
+
+    def test_lists_and_dicts_of_the_top_are_only_read(self):
+        for path, tree in trees():
+            kept = {node.targets[0].id for node in tree.body
+                    if isinstance(node, ast.Assign) and isinstance(node.value, (ast.List, ast.Dict))}
+            for node, parent, beyond in with_parents(tree):
+                if isinstance(node, ast.Name) and node.id in kept and isinstance(node.ctx, ast.Load):
+                    right = isinstance(parent, ast.Subscript) and isinstance(parent.ctx, ast.Load) or \
+                        isinstance(parent, (ast.Compare, ast.For, ast.comprehension)) or \
+                        isinstance(parent, ast.Attribute) and parent.attr in ("get", "items", "keys", "values") or \
+                        isinstance(parent, ast.Call) and getattr(parent.func, "id", "") in ("len", "list", "dict", "sorted")
+                    self.assertTrue(right, (path, node.lineno))
+            for node in tree.body:
+                if isinstance(node, ast.ImportFrom):
+                    self.assertEqual([alias.name for alias in node.names if alias.asname], [], path)
+
+    def test_numbers(self):
+        for path, tree in trees():
+            for node in ast.walk(tree):
+                if isinstance(node, ast.BinOp) and isinstance(node.op, ast.Pow):
+                    self.assertIsInstance(node.right, ast.Constant, (path, node.lineno))
+                    self.assertTrue(0 <= node.right.value <= 64, (path, node.lineno))
+                    self.assertNotEqual(getattr(node.left, "value", 0), 2, (path, node.lineno))
+
+    def test_init_gives_back_nothing(self):
+        for path, tree in trees():
+            for node in ast.walk(tree):
+                if isinstance(node, ast.FunctionDef) and node.name in DUNDERS:
+                    self.assertEqual(node.name, "__init__", path)
+                    self.assertFalse(any(isinstance(one, ast.Return) for one in ast.walk(node)), path)
 
 
 if __name__ == "__main__":
