@@ -10,6 +10,11 @@ SORTS = {
 }
 
 
+# None where there is no row of this word.
+def sorts_of(word):
+    return SORTS.get(word)
+
+
 def pieces(row):
     return list(zip(SORTS[row[0]], row[1:]))
 
