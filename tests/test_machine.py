@@ -265,7 +265,7 @@ class FaultOrderTest(MachineCase):
                           ("say", thru("q")), GIVE, lets=named(x=NUM, y=NUM, q=lent(NUM))), "stale", 3)
 
     def test_boxes_one_after_the_other(self):
-        """Box 0 is empty and box 1 stale, or the other way round."""
+        """The first of the boxes or the last one is stale: the row is not done either way."""
         lets = named(x=("rec", (NUM, NUM)), y=("rec", (NUM, NUM)), r=sole(("rec", (NUM, NUM))))
         rows = (("put", spot("x", 0), 1), ("put", spot("x", 1), 1), ("sole", "r", spot("x")))
         for leaf in (0, 1):
